@@ -27,7 +27,7 @@ func gone[K cmp.Ordered, V any](walk iter.Seq2[K, V]) []told[K, V] {
 	return out
 }
 
-// filled is a table of texts, put in the order told, each with its place in it.
+// filled is a table of keys, put in the order told, each with its place in it.
 func filled[K cmp.Ordered](keys ...K) *table.Table[K, int] {
 	t := table.New[K, int]()
 	for i, k := range keys {
