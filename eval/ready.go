@@ -4,8 +4,8 @@ import (
 	"slices"
 
 	"scruple/api"
-	"scruple/check"
 	"scruple/gas"
+	"scruple/sense"
 )
 
 // function is a Fn.
@@ -105,84 +105,42 @@ func expressionsOf(nodes []api.Node) []expression {
 
 // linkOf is the way in which a Binary, an At or a Dot goes on with what its first Kid has come to.
 func linkOf(n api.Node) link {
-	switch {
-	case n.Kind == api.At:
-		return operationOf(api.OpIndex, api.Value{}, n.Kids[1:])
-	case n.Kind == api.Dot:
-		return operationOf(api.OpField, text(n.Text), nil)
-	case n.Text == "&&":
-		return shortcut{false, expressionOf(n.Kids[1])}
-	case n.Text == "||":
-		return shortcut{true, expressionOf(n.Kids[1])}
+	if op, one := sense.Op(n); one {
+		return operationOf(op, n, n.Kids[1:])
 	}
-	return operationOf(signed(n.Text), api.Value{}, n.Kids[1:])
+	return shortcut{n.Text == "||", expressionOf(n.Kids[1])}
 }
 
 // firstOf is the way in which an expression is run that is no chain.
 func firstOf(n api.Node) expression {
-	switch n.Kind {
-	case api.Lit:
+	if n.Kind == api.Lit {
 		return literal{n.Val}
-	case api.Name:
+	}
+	if n.Kind == api.Name {
 		return variable{n.Text}
-	case api.Unary:
-		if n.Text == "-" {
-			return operationOf(api.OpNeg, api.Value{}, n.Kids)
-		}
-		return operationOf(api.OpNot, api.Value{}, n.Kids)
-	case api.List:
-		return operationOf(api.OpArray, api.Value{}, n.Kids)
-	case api.Fields:
-		return fieldsOf(n)
 	}
-	if op, _, builtin := check.Builtin(n.Text); builtin { // a Call
-		return operationOf(op, api.Value{}, n.Kids)
+	op, one := sense.Op(n)
+	if !one {
+		return call{n.Text, expressionsOf(n.Kids)}
 	}
-	return call{n.Text, expressionsOf(n.Kids)}
+	if n.Kind == api.Fields {
+		return operationOf(op, n, behindKeys(n))
+	}
+	return operationOf(op, n, n.Kids)
 }
 
-// fieldsOf is the way of a Fields: its keys are the constant that record has besides.
-func fieldsOf(n api.Node) expression {
-	keys := api.Value{Kind: api.Array}
-	var behind []api.Node
+// behindKeys are the expressions of a Fields.
+func behindKeys(n api.Node) []api.Node {
+	var l []api.Node
 	for _, pair := range n.Kids {
-		keys.L = append(keys.L, text(pair.Text))
-		behind = append(behind, pair.Kids[0])
+		l = append(l, pair.Kids[0])
 	}
-	return operationOf(api.OpRecord, keys, behind)
+	return l
 }
 
-func operationOf(op int, extra api.Value, kids []api.Node) operation {
+// operationOf is the way of a node that is one operation, on what some nodes within it come to.
+func operationOf(op int, n api.Node, kids []api.Node) operation {
 	bare, _ := gas.Cost(op, 0)
 	more, _ := gas.Cost(op, 1)
-	return operation{op, extra, expressionsOf(kids), more > bare}
+	return operation{op, sense.Constant(n), expressionsOf(kids), more > bare}
 }
-
-// signed is the operation of a Binary's sign.
-func signed(sign string) int {
-	switch sign {
-	case "+":
-		return api.OpAdd
-	case "-":
-		return api.OpSub
-	case "*":
-		return api.OpMul
-	case "/":
-		return api.OpDiv
-	case "%":
-		return api.OpRem
-	case "==":
-		return api.OpEq
-	case "!=":
-		return api.OpNe
-	case "<":
-		return api.OpLt
-	case "<=":
-		return api.OpLe
-	case ">":
-		return api.OpGt
-	}
-	return api.OpGe
-}
-
-func text(s string) api.Value { return api.Value{Kind: api.Bytes, S: s} }
