@@ -42,7 +42,7 @@ func agree(t *testing.T, n api.Node) (api.Module, api.Errno) {
 func TestP211Grown(t *testing.T) {
 	dice := rand.New(rand.NewSource(2101))
 	seen := map[api.Errno]int{}
-	for i := range 1000 {
+	for i := range 800 {
 		functions, size, broad, numbers := 1+dice.Intn(4), 20+dice.Intn(200), 4, int64(5)
 		switch i % 6 {
 		case 1:
@@ -66,7 +66,7 @@ func TestP211Grown(t *testing.T) {
 		}
 	}
 	for _, e := range []api.Errno{api.OK, api.ErrCompileFuncs, api.ErrCompileLocals, api.ErrCompileConsts, api.ErrCompileCode, api.ErrCompileStack} {
-		if seen[e] < 12 {
+		if seen[e] < 10 {
 			t.Errorf("%d came only %d times (%v)", e, seen[e], seen)
 		}
 	}
@@ -95,7 +95,7 @@ func told(o api.Outcome, e api.Errno, s *store.Store) string {
 func TestT3Runs(t *testing.T) {
 	dice := rand.New(rand.NewSource(2102))
 	seen, runs := map[string]int{}, 0
-	for runs < 4000 {
+	for runs < 3000 {
 		n := grown(dice, 1+dice.Intn(4), 40+dice.Intn(80), 5, 5)
 		m, e := agree(t, n)
 		if e != api.OK {
@@ -205,7 +205,7 @@ func TestP212Source(t *testing.T) {
 // TestP212Same: Source is Program of the tree that parse tells.
 func TestP212Same(t *testing.T) {
 	dice := rand.New(rand.NewSource(2103))
-	for range 1000 {
+	for range 400 {
 		s, e := print.Program(grown(dice, 1+dice.Intn(3), dice.Intn(300), 4+dice.Intn(40), int64(5+dice.Intn(100))))
 		n, _, f := parse.Program(s)
 		if e != api.OK || f != api.OK {
@@ -306,7 +306,7 @@ func scribble(m api.Module) {
 // TestP213NewMemory: an answer shares no memory with the tree, nor two lists of it, and the tree stays as it is.
 func TestP213NewMemory(t *testing.T) {
 	dice := rand.New(rand.NewSource(2104))
-	for range 200 {
+	for range 100 {
 		n := roomy(grown(dice, 1+dice.Intn(4), dice.Intn(400), 5+dice.Intn(40), 100))
 		before := full(n)
 		m, at, e := compile.Program(n)
